@@ -1,0 +1,1 @@
+"""Pailchain: pails handed along a chain of hands, from the well to the fire."""
