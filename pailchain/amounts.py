@@ -1,5 +1,7 @@
 """Amounts: exact pairs (num, den) in lowest terms, den from 1 on."""
 
+NOUGHT = (0, 1)
+
 
 def common_divisor(one, other):
     """The greatest number that divides both, neither below nought, not both nought."""
@@ -36,6 +38,10 @@ def over(one, other):
 def below(one, other):
     # No den is below 1, so multiplying by both keeps the order.
     return one[0] * other[1] < other[0] * one[1]
+
+
+def lesser(one, other):
+    return one if below(one, other) else other
 
 
 def shown(one):

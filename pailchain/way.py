@@ -1,22 +1,17 @@
 """The way from the well to the fire: its stretches, places and steps."""
 
-from pailchain.amounts import below, minus, over, plus, times
+from pailchain.amounts import NOUGHT, below, lesser, minus, over, plus, times
+from pailchain.checks import is_within
 from pailchain.errors import BadPlace, BadWay
 
-NOUGHT = (0, 1)
 MOST_STRETCHES = 6
 MOST_STEPS_OR_TOIL = 9
-
-
-def is_number(thing):
-    # Python counts True and False as integers; the document does not.
-    return isinstance(thing, int) and not isinstance(thing, bool)
 
 
 def is_stretch(thing):
     if not isinstance(thing, tuple) or len(thing) != 2:
         return False
-    return all(is_number(part) and 1 <= part <= MOST_STEPS_OR_TOIL for part in thing)
+    return all(is_within(part, 1, MOST_STEPS_OR_TOIL) for part in thing)
 
 
 def check_way(way):
@@ -32,10 +27,6 @@ def check_within(where, end):
     """Refuses with BadPlace an amount that is not from nought to the number end."""
     if below(where, NOUGHT) or below((end, 1), where):
         raise BadPlace()
-
-
-def lesser(one, other):
-    return one if below(one, other) else other
 
 
 def labour(way):

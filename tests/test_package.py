@@ -1,6 +1,7 @@
 """The rules of the language that a test can see without much ado."""
 
 import ast
+import builtins
 import re
 import unittest
 from pathlib import Path
@@ -33,6 +34,30 @@ def bound_names(tree):
         elif isinstance(node, ast.ExceptHandler) and node.name:
             names.add(node.name)
     return names
+
+
+def methods_and_attributes(tree):
+    """The names of all methods, and of all attributes that are assigned."""
+    methods, attributes = set(), set()
+    for node in ast.walk(tree):
+        if isinstance(node, ast.ClassDef):
+            methods.update(item.name for item in node.body if isinstance(item, ast.FunctionDef))
+        elif isinstance(node, ast.Attribute) and not isinstance(node.ctx, ast.Load):
+            attributes.add(node.attr)
+    return methods, attributes
+
+
+def top_names(tree):
+    """The names of a file's imports and classes."""
+    names = {node.name for node in tree.body if isinstance(node, ast.ClassDef)}
+    for node in tree.body:
+        if isinstance(node, ast.ImportFrom):
+            names.update(alias.asname or alias.name for alias in node.names)
+    return names
+
+
+def imported(tree):
+    return {node.module.split(".")[1] for node in tree.body if isinstance(node, ast.ImportFrom)}
 
 
 def package_files():
@@ -77,6 +102,47 @@ class PackageTest(unittest.TestCase):
             self.assertEqual(bound & BUILTINS, set(), name)
             read = {node.id for node in ast.walk(tree) if isinstance(node, ast.Name)}
             self.assertLessEqual(read - bound, BUILTINS, name)
+
+    def test_no_two_files_import_from_each_other(self):
+        left = {name.split(".")[0]: imported(tree) for name, text, tree in package_files()}
+        while left:
+            free = [name for name in left if not left[name] & set(left)]
+            self.assertTrue(free, left)
+            for name in free:
+                del left[name]
+
+    def test_imports_name_the_file_that_defines_the_name_and_are_used(self):
+        trees = {name.split(".")[0]: tree for name, text, tree in package_files()}
+        for name, tree in trees.items():
+            read = {node.id for node in ast.walk(tree) if isinstance(node, ast.Name)}
+            for node in tree.body:
+                if isinstance(node, ast.ImportFrom):
+                    other = trees[node.module.split(".")[1]]
+                    for alias in node.names:
+                        self.assertIn(alias.name, bound_names(other) - top_names(other) | {
+                            item.name for item in other.body if isinstance(item, ast.ClassDef)}, name)
+                        self.assertIn(alias.name, read, name)
+
+    def test_names_are_plain_and_bound_once(self):
+        for name, text, tree in package_files():
+            inside = set()
+            for node in ast.walk(tree):
+                if isinstance(node, ast.FunctionDef):
+                    inside.update(item.arg for item in ast.walk(node) if isinstance(item, ast.arg))
+                    inside.update(item.id for item in ast.walk(node)
+                                  if isinstance(item, ast.Name) and not isinstance(item.ctx, ast.Load))
+            self.assertEqual(inside & top_names(tree), set(), name)
+            self.assertEqual(inside & set(dir(builtins)), set(), name)
+            for each in inside:
+                self.assertFalse(each.startswith("_"), (name, each))
+
+    def test_no_name_is_a_method_and_an_attribute(self):
+        methods, attributes = set(), set()
+        for name, text, tree in package_files():
+            found = methods_and_attributes(tree)
+            methods |= found[0]
+            attributes |= found[1]
+        self.assertEqual(methods & attributes, set())
 
     def test_no_float_and_no_percent_sign_in_strings(self):
         for name, text, tree in package_files():
