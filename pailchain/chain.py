@@ -1,20 +1,12 @@
 """Chains: hands that join, hand pails on towards the fire, and leave."""
 
 from pailchain.amounts import NOUGHT, below, lesser, minus, plus, times
-from pailchain.checks import MOST_HANDS, check_hours, check_pace, is_within
-from pailchain.errors import BadCount, BadName, Called, Full, NoHand, NoNext, NoPail, Nobody, NotCalled, Taken, TooLong
+from pailchain.checks import MOST_HANDS, check_hours, check_name, check_pace, is_within
+from pailchain.errors import BadCount, Called, Full, NoHand, NoNext, NoPail, Nobody, NotCalled, Taken, TooLong
 from pailchain.walking import hours_at, meeting, speeds, walked
 from pailchain.way import labour
 
-MOST_LETTERS = 8
 MOST_OUTS = 60
-
-
-def check_name(name):
-    if not 1 <= len(name) <= MOST_LETTERS:
-        raise BadName()
-    if not all("a" <= sign <= "z" for sign in name):
-        raise BadName()
 
 
 def ledger_on(ledger, pace, speed, hours):
@@ -53,7 +45,8 @@ class Chain:
         self.tempos = {}
         self.leaving = []
         self.ledgers = {}
-        # For each pail the marks (name, place) of those who handed it on or emptied it.
+        # For each pail the marks (name, place) of those who handed it on or emptied it: a tuple, so that twins can
+        # have the same one.
         self.marks = []
         self.poured = []
 
@@ -186,7 +179,7 @@ class Chain:
         self.tempos = dict(other.tempos)
         self.leaving = list(other.leaving)
         self.ledgers = dict(other.ledgers)
-        self.marks = [list(marks) for marks in other.marks]
+        self.marks = list(other.marks)
         self.poured = list(other.poured)
 
     def number_of(self, name):
@@ -201,14 +194,15 @@ class Chain:
     def take_pail(self):
         """A new pail, at the well, ahead of all others in the row; its number."""
         number = len(self.marks)
-        self.marks.append([])
+        self.marks.append(())
         self.loads.insert(0, number)
         self.spots.insert(0, NOUGHT)
         return number
 
     def mark(self, at):
         """Notes who bears the pail of this number in the row, and up to where."""
-        self.marks[self.loads[at]].append((self.row[at], self.spots[at]))
+        pail = self.loads[at]
+        self.marks[pail] = self.marks[pail] + ((self.row[at], self.spots[at]),)
 
     def mark_from(self, first):
         for at in range(first, len(self.row)):

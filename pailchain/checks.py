@@ -1,8 +1,9 @@
-"""What several files refuse alike: numbers, paces and hours."""
+"""What several files refuse alike: numbers, names, paces and hours."""
 
 from pailchain.amounts import NOUGHT, below
-from pailchain.errors import BadCount, BadPace, BadTime
+from pailchain.errors import BadCount, BadName, BadPace, BadTime
 
+MOST_LETTERS = 8
 MOST_PACE = 12
 MOST_HANDS = 8
 MOST_HOURS = 60
@@ -17,6 +18,16 @@ def is_number(thing):
 def is_within(thing, least, most):
     """Whether it is a number from least to most."""
     return is_number(thing) and least <= thing <= most
+
+
+def is_name(text):
+    """Whether it is 1 to 8 letters from a to z."""
+    return 1 <= len(text) <= MOST_LETTERS and all("a" <= sign <= "z" for sign in text)
+
+
+def check_name(name):
+    if not is_name(name):
+        raise BadName()
 
 
 def check_pace(pace):

@@ -12,11 +12,16 @@ LONGEST_STRETCH = 9
 NAMES = "abcd"
 
 
-def check_order(labour, paces, hours):
-    """Refuses with BadLabour, BadCount, BadPace, BadTime, TooLong."""
+def check_ordered(labour, paces):
+    """Refuses with BadLabour, BadCount, BadPace."""
     if not is_within(labour, 1, MOST_LABOUR):
         raise BadLabour()
     check_paces(paces, MOST_ORDERED)
+
+
+def check_order(labour, paces, hours):
+    """Refuses with BadLabour, BadCount, BadPace, BadTime, TooLong."""
+    check_ordered(labour, paces)
     check_hours(hours)
     if below((MOST_EMPTIED * labour, 1), times(hours, (sum(paces), 1))):
         raise TooLong()
@@ -30,12 +35,18 @@ def way_of(labour):
     return way
 
 
-def count_emptied(labour, paces, hours):
-    """How many pails are emptied; nothing is refused."""
+def begun(labour, paces):
+    """A chain of hands of these paces, all at the well with a pail."""
     chain = Chain(way_of(labour))
     # Each one joins ahead of all others, so the one at the fire joins first.
     for at in reversed(range(len(paces))):
         chain.enter(NAMES[at], paces[at])
+    return chain
+
+
+def count_emptied(labour, paces, hours):
+    """How many pails are emptied; nothing is refused."""
+    chain = begun(labour, paces)
     chain.go(hours)
     return len(chain.emptied())
 

@@ -9,7 +9,7 @@ from fractions import Fraction
 
 from pailchain.errors import NoHand
 
-NAMES = list("abcdefghijklmnopqrstuvwxyz") + ["new"]
+NAMES = list("abcdefghijklmnopqrstuvwxyz") + ["new", "al", "bo", "cy", "di", "ed", "fay", "gus"]
 
 
 def pair(worth):

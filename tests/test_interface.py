@@ -1,4 +1,4 @@
-"""The names and arguments that the document's interface lists, as far as they have landed."""
+"""The names and arguments that the document's interface lists."""
 
 import inspect
 import unittest
@@ -25,6 +25,8 @@ FUNCTIONS = {
         "emptied_by": ["labour", "paces", "hours"], "best": ["labour", "paces", "hours"],
         "bound": ["labour", "paces", "hours"],
     },
+    "looker": {"log_fault": ["labour", "paces", "rows"]},
+    "words": {"deed_text": ["deed"], "read_deed": ["text"], "written": ["yard"], "read_yard": ["text"]},
 }
 METHODS = {
     ("chain", "Chain"): {
@@ -33,6 +35,11 @@ METHODS = {
         "pace": ["name"], "place": ["name"], "pail": ["name"], "emptied": [], "pails": [], "next_out": [],
         "ledger": ["name"], "story": ["pail"], "twin": [],
     },
+    ("yard", "Yard"): {
+        "__init__": [], "do": ["deed"], "undo": [], "redo": [], "hour": [], "pool": [], "chains": [],
+        "chain": ["number"], "where": ["name"], "pace": ["name"], "book": [], "deeds": [], "twin": [],
+    },
+    ("desk", "Desk"): {"__init__": [], "say": ["row"]},
 }
 
 

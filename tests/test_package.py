@@ -18,6 +18,25 @@ BARRED = re.compile(
     r"\b(type|typing|typing_extensions|enum|Enum|IntEnum|StrEnum|Flag|IntFlag|Generic|Protocol|ABC|ABCMeta|"
     r"namedtuple|NamedTuple|TypedDict|TYPE_CHECKING|abstractmethod)\b|dataclass|overload|contextmanager"
 )
+# L25, those that the package may call of builtin values.
+CALLED = set(
+    "append clear copy count endswith extend find get index insert isalnum isalpha isdigit islower isspace isupper "
+    "items join keys ljust lower lstrip partition pop remove replace reverse rfind rjust rpartition rsplit rstrip setdefault "
+    "split splitlines startswith strip update upper values zfill bit_length removeprefix removesuffix".split()
+)
+STATEMENTS = (
+    ast.Assign, ast.AugAssign, ast.If, ast.While, ast.For, ast.Return, ast.Break, ast.Continue, ast.Pass, ast.Raise,
+    ast.Assert, ast.Delete, ast.Try, ast.Expr, ast.FunctionDef, ast.ClassDef, ast.ImportFrom,
+)
+
+
+def is_plain(node, functions):
+    """Whether the module-level expression is a plain value, or a table of plain values and functions."""
+    if isinstance(node, (ast.Tuple, ast.List)):
+        return all(is_plain(item, functions) for item in node.elts)
+    if isinstance(node, ast.Dict):
+        return all(is_plain(item, functions) for item in node.keys + node.values)
+    return isinstance(node, ast.Constant) or isinstance(node, ast.Name) and node.id in functions
 
 
 def bound_names(tree):
@@ -143,6 +162,48 @@ class PackageTest(unittest.TestCase):
             methods |= found[0]
             attributes |= found[1]
         self.assertEqual(methods & attributes, set())
+
+    def test_what_stands_at_module_level(self):
+        for name, text, tree in package_files():
+            functions = set()
+            for node in tree.body:
+                if isinstance(node, ast.FunctionDef):
+                    functions.add(node.name)
+                elif isinstance(node, ast.Assign):
+                    self.assertTrue(is_plain(node.value, functions), (name, node.lineno))
+                elif isinstance(node, ast.Expr):
+                    self.assertIs(node, tree.body[0], name)
+                    self.assertIsInstance(node.value, ast.Constant, name)
+                else:
+                    self.assertIsInstance(node, (ast.ClassDef, ast.ImportFrom), (name, node.lineno))
+
+    def test_statements_and_refusals(self):
+        for name, text, tree in package_files():
+            for node in ast.walk(tree):
+                where = (name, getattr(node, "lineno", 0))
+                if isinstance(node, ast.stmt):
+                    self.assertIsInstance(node, STATEMENTS, where)
+                if isinstance(node, ast.Raise):
+                    self.assertIsInstance(node.exc, ast.Call, where)
+                    self.assertIsInstance(node.exc.func, ast.Name, where)
+                if isinstance(node, ast.Compare):
+                    for sign, other in zip(node.ops, node.comparators):
+                        if isinstance(sign, (ast.Is, ast.IsNot)):
+                            self.assertIsInstance(other, ast.Constant, where)
+
+    def test_methods_that_are_called_and_attributes_that_are_read(self):
+        trees = [(name, tree) for name, text, tree in package_files()]
+        methods, attributes = set(), set()
+        for name, tree in trees:
+            found = methods_and_attributes(tree)
+            methods |= found[0]
+            attributes |= found[1]
+        for name, tree in trees:
+            called = {id(node.func) for node in ast.walk(tree) if isinstance(node, ast.Call)}
+            for node in ast.walk(tree):
+                if isinstance(node, ast.Attribute):
+                    known = methods | CALLED if id(node) in called else attributes
+                    self.assertIn(node.attr, known, (name, node.lineno))
 
     def test_no_float_and_no_percent_sign_in_strings(self):
         for name, text, tree in package_files():
