@@ -238,8 +238,8 @@ class RefusalTest(DeskCase):
         rows = [
             "", " ", "\n", "Hour", "hour ", " hour", "hour 0", "hour\n", "pool al", "pool ", "hands", "hands ",
             "hands al", "hands 0 1", "hands  0", "hands 00", "hands +0", "hands -0", "hands 0 ", "where", "where 0",
-            "where al bo", "where Al", "where abcdefghi", "ledger", "ledger al", "ledger 0 al", "ledger al 0 0", "ledger 0", "next",
-            "next al", "next 0 0", "next 1000000000", "undo 1", "undo ", " undo", "UNDO", "redo 1", "redo ", "redo\n",
+            "where al bo", "where Al", "where abcdefghi", "ledger", "ledger al", "ledger 0 al", "ledger al 0 0", "ledger 0",
+            "next", "next al", "next 0 0", "next 1000000000", "undo 1", "undo ", " undo", "UNDO", "redo 1", "redo ", "redo\n",
             "undo\nredo", "yard", "yard\ngo 1 1", "go 1 1\ngo 1 1", "done", "chains", "chain 0", "book", "deeds",
             "pace al", "pace", "story 0", "help", "none", "lay", "lay 4", "hire al", "send al", "call", "go 01 1",
             "go 1/2 1", "no: bad text", "~" * 4000, "x y z", "hour\nhour",

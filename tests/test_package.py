@@ -22,7 +22,8 @@ BARRED = re.compile(
 CALLED = set(
     "append clear copy count endswith extend find get index insert isalnum isalpha isdigit islower isspace isupper "
     "items join keys ljust lower lstrip partition pop remove replace reverse rfind rjust rpartition rsplit rstrip "
-    "setdefault split splitlines startswith strip update upper values zfill bit_length removeprefix removesuffix".split()
+    "setdefault split splitlines startswith strip update upper values zfill bit_length "
+    "removeprefix removesuffix".split()
 )
 STATEMENTS = (
     ast.Assign, ast.AugAssign, ast.If, ast.While, ast.For, ast.Return, ast.Break, ast.Continue, ast.Pass, ast.Raise,
